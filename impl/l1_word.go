@@ -50,6 +50,9 @@ func (r wordRange) common(other wordRange) wordRange {
 	return wordRange{addr: from, size: end - from}
 }
 
+// within says whether each word of a range is one of another one.
+func (r wordRange) within(outer wordRange) bool { return !r.none() && r.common(outer) == r }
+
 // WordSize is 2 to a number of bits.
 func WordSize(bits int) int {
 	if bits < 0 || bits > WordMaxBits {
@@ -75,8 +78,7 @@ func WordUp(addr int, size int) int {
 
 // WordIn says whether a range is within another one.
 func WordIn(addr int, size int, outer int, room int) bool {
-	r := rangeOf(addr, size)
-	return !r.none() && r.common(rangeOf(outer, room)) == r
+	return rangeOf(addr, size).within(rangeOf(outer, room))
 }
 
 // WordMeet says whether two ranges have a word in common.
