@@ -557,18 +557,19 @@ func TestReapPromise21(t *testing.T) {
 // checkEachCut cuts one run, which takes a known number of slots with the slot itself, at each of them.
 func checkEachCut(t *testing.T, k impl.Kern, at int, self bool, slots int) {
 	t.Helper()
+	ends := func(n int) bool { return n >= slots || n == slots-1 && !self }
 	var wholes []impl.Kern
 	for n := range slots + 3 {
 		whole, done := checkReapRun(t, k, at, self, n)
-		if done != (n >= slots || n == slots-1 && !self) {
+		if done != ends(n) {
 			t.Fatalf("itself %v, %d slots: %v", self, n, done)
 		}
 		wholes = append(wholes, whole)
 	}
 	for a, first := range wholes {
 		for b := 0; a+b < len(wholes); b += 1 + a%3 {
-			if got, _ := impl.ReapRun(first, at, self, b); !wantKernSame(got, wholes[a+b]) {
-				t.Fatalf("itself %v: %d and %d\n%+v\nwant\n%+v", self, a, b, got, wholes[a+b])
+			if got, done := impl.ReapRun(first, at, self, b); done != ends(a+b) || !wantKernSame(got, wholes[a+b]) {
+				t.Fatalf("itself %v: %d and %d: %v\n%+v\nwant\n%+v", self, a, b, done, got, wholes[a+b])
 			}
 		}
 	}
