@@ -225,7 +225,12 @@ func TestIpcPromise26(t *testing.T) {
 				}
 			}
 		}
-		// What is no receiving leaves the reply where it is.
+	}
+}
+
+// What is no receiving leaves the reply where it is.
+func TestIpcReplyStays(t *testing.T) {
+	for way := range 4 {
 		k := calledHall(t, way%2 == 0, way/2 == 0)
 		for _, c := range []ipcCall{
 			{op: ipcRecvs, thread: hallLone, c: noteOf(hallActive, 1, 0)}, {op: ipcRecvs, thread: hallLone, c: endOf(hallSent, 6, 0)}, {op: ipcRecvs, thread: hallLone, c: noteOf(hallListens, 1, 0), waits: true},
